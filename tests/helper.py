@@ -1,6 +1,13 @@
-"""What the tests share: houses, values that fit nowhere, and checks that nothing handed in is modified."""
+"""What the tests share: houses, cases, values that fit nowhere, and checks that nothing handed in is modified."""
 
+import itertools
+import random
 import unittest
+
+from doorslips.houses import contents
+from doorslips.kinds import after
+
+ORDERS = ("any", "oldest", "newest")
 
 TURN = (
     (2, 3),
@@ -10,6 +17,18 @@ TURN = (
         (("add", 0, 1),),
     ),
 )
+
+GREATEST = ((3,), (0,), ((("raise", 0, 0),), (("raise", 0, 1),), (("raise", 0, 2),)))
+LAST = ((3,), (0,), ((("set", 0, 1),), (("set", 0, 2),)))
+SUM = ((3,), (0,), ((("add", 0, 1),), (("add", 0, 2),)))
+EIGHT = ((8,), (0,), ((("set", 0, 0),), (("add", 0, 1),)))
+# The first cell keeps the last bit that came, the second one the bit ahead of it.
+WINDOW = ((2, 2), (0, 0), ((("copy", 1, 0), ("set", 0, 0)), (("copy", 1, 0), ("set", 0, 1))))
+# One who comes only counts if the door is open; one opens it, one shuts it.
+GATE = ((2, 2), (1, 0), ((("when", 0, 1, 1, ("add", 1, 1)),), (("set", 0, 1),), (("set", 0, 0),)))
+FOUR = ((2, 2, 2), (0, 1, 0), ((("swap", 0, 1),), (), (("add", 2, 1), ("copy", 0, 2)), (("lower", 1, 0),)))
+
+HOUSES = (TURN, GREATEST, LAST, SUM, EIGHT, WINDOW, GATE, FOUR)
 
 ALL_SIZES = (
     (2,), (3,), (4,), (5,), (6,), (7,), (8,),
@@ -38,6 +57,9 @@ NOWHERE = (
     (0,) * 100000, [0] * 100000,
 )
 
+# None of these is a kind, or a goer of any use of any house.
+NO_GOERS = NOWHERE + (4, -4, 10 ** 9, "1", (), (0,), (0, 1), (0, 1, 2, 3), [1], {1: 1}, ("any", (0,)), "any")
+
 
 def house_of(*steps, sizes=(2, 2, 2)):
     """Return a house with one kind of these steps."""
@@ -47,6 +69,98 @@ def house_of(*steps, sizes=(2, 2, 2)):
 def house_of_kinds(many):
     """Return a house of many kinds."""
     return ((8,), (0,), tuple((("set", 0, kind),) for kind in range(many)))
+
+
+def all_steps(sizes):
+    """Return all steps for cells of these sizes."""
+    cells = range(len(sizes))
+    steps = [(word, c, v) for c in cells for v in range(sizes[c]) for word in ("set", "raise", "lower")]
+    steps += [(word, c, n) for c in cells for n in range(1, sizes[c]) for word in ("add", "up")]
+    steps += [("copy", c, d) for c, d in itertools.permutations(cells, 2)]
+    steps += [("swap", c, d) for c, d in itertools.permutations(cells, 2) if sizes[c] == sizes[d]]
+    bounds = [(c, low, high) for c in cells for high in range(sizes[c]) for low in range(high + 1)]
+    return steps + [("when",) + bound + (step,) for bound in bounds for step in steps]
+
+
+def some_houses(many, seed):
+    """Return as many houses, drawn by the seed alone: those of 8 contents and of 4 kinds are the most."""
+    draw = random.Random(seed)
+    houses = []
+    for index in range(many):
+        sizes = draw.choice(ALL_SIZES if index % 2 else ((8,), (2, 4), (4, 2), (2, 2, 2)))
+        steps = all_steps(sizes)
+        begin = tuple(draw.randrange(size) for size in sizes)
+        kinds = tuple(
+            tuple(draw.choice(steps) for _ in range(draw.randint(0, 6 if index % 3 else 2)))
+            for _ in range(4 if index % 4 else draw.randint(1, 3))
+        )
+        houses.append((sizes, begin, kinds))
+    return houses
+
+
+def all_uses(house):
+    """Return all uses of a house."""
+    kinds = range(len(house[2]))
+    sets = [goers for size in kinds for goers in itertools.combinations(kinds, size + 1)]
+    return [(order, goers) for order in ORDERS for goers in sets]
+
+
+def rows_of(kinds, most):
+    """Return all tuples of at most so many of the kinds."""
+    return [row for size in range(most + 1) for row in itertools.product(kinds, repeat=size)]
+
+
+def all_gone(use, comers):
+    """Return all tuples of indices of the comers who may have gone in between, as point 8 tells them."""
+    order, goers = use
+    theirs = [index for index, kind in enumerate(comers) if kind in goers]
+    if order == "newest":
+        return [()]
+    if order == "oldest":
+        return [tuple(theirs)]
+    return [gone for size in range(len(theirs) + 1) for gone in itertools.combinations(theirs, size)]
+
+
+def later_kinds(house, use):
+    """Return the kinds of which later ones may be, as point 8 tells them."""
+    return [kind for kind in range(len(house[2])) if use[0] != "newest" or kind not in use[1]]
+
+
+def all_cases(house, use, most_comers, most_later):
+    """Return all cases of at most so many comers and later ones; they are the same for each goer."""
+    return [
+        (comers, gone, later)
+        for comers in rows_of(range(len(house[2])), most_comers)
+        for gone in all_gone(use, comers)
+        for later in rows_of(later_kinds(house, use), most_later)
+    ]
+
+
+def door_of(house, case):
+    """Return the door of a case."""
+    return after(house, house[1], case[0])
+
+
+def rest_of(case):
+    """Return the comers of a case without those who are gone."""
+    comers, gone, _ = case
+    return tuple(kind for index, kind in enumerate(comers) if index not in gone)
+
+
+def pair_of(house, case):
+    """Return the pair of a case."""
+    return door_of(house, case), after(house, house[1], rest_of(case))
+
+
+def question_of(house, goer, case):
+    """Return the pair of the present and the wanted of a case of a goer."""
+    present = after(house, house[1], rest_of(case) + (goer,) + case[2])
+    return present, after(house, house[1], rest_of(case) + case[2])
+
+
+def cells(*pairs_of_values):
+    """Return pairs of contents of one cell."""
+    return tuple(((one,), (two,)) for one, two in pairs_of_values)
 
 
 def paths(value, path=()):
@@ -95,3 +209,12 @@ class Case(unittest.TestCase):
     def same(self, found, expected):
         """Check that two values are equal, and of the same kinds throughout."""
         self.assertEqual(repr(found), repr(expected))
+
+    def are_pairs_of_contents(self, house, found):
+        """Check that a tuple of pairs of contents of a house ascends, with each one once."""
+        self.assertIs(type(found), tuple)
+        self.assertEqual(list(found), sorted(set(found)))
+        for pair in found:
+            self.assertIs(type(pair), tuple)
+            self.assertEqual(len(pair), 2)
+            self.assertLessEqual(set(pair), set(contents(house)))

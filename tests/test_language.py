@@ -53,6 +53,10 @@ INTERFACE = {
     "houses": ("require_house", "contents"),
     "kinds": ("after", "table"),
     "uses": ("require_use", "all_sets"),
+    "histories": ("is_history", "inside", "due"),
+    "pairs": ("pairs",),
+    "questions": ("doors", "questions"),
+    "clashes": ("clashes", "never_cases"),
 }
 
 

@@ -1,0 +1,57 @@
+"""An answer depends on the arguments alone, whatever was asked before it."""
+
+import unittest
+
+from doorslips.clashes import clashes, never_cases
+from doorslips.histories import due, inside, is_history
+from doorslips.pairs import pairs
+from doorslips.questions import doors, questions
+from tests.helper import GREATEST, HOUSES, LAST, Case, all_uses
+
+
+def answers_of(case, house):
+    """Return the answers of all functions of a house and its uses."""
+    found = [case.answer(doors, house)]
+    for use in all_uses(house):
+        history = (("in", 0), ("in", use[1][0]), ("in", 0), ("out", 1))
+        found.append(case.answer(is_history, house, use, history))
+        # By "any", the second entry may always go.
+        if use[0] == "any":
+            found += [case.answer(inside, house, use, history), case.answer(due, house, use, history)]
+        found.append(case.answer(pairs, house, use))
+        for kind in use[1]:
+            found += [case.answer(questions, house, use, kind, door) for door in doors(house)]
+            found += [case.answer(clashes, house, use, kind), case.answer(never_cases, house, use, kind)]
+    return found
+
+
+class TestAgain(Case):
+    def test_a_house_then_others_then_the_first_one_again(self):
+        first = [answers_of(self, house) for house in HOUSES]
+        again = [answers_of(self, house) for house in reversed(HOUSES)]
+        self.same(again[::-1], first)
+
+    def test_houses_with_the_same_cells_and_other_kinds(self):
+        other = (GREATEST[0], GREATEST[1], GREATEST[2][1:] + (GREATEST[2][0],))
+        later = (GREATEST[0], (1,), GREATEST[2])
+        for function, arguments in (
+            (due, (("any", (0,)), (("in", 1),))), (pairs, (("any", (0,)),)), (questions, (("any", (0,)), 0, (1,))),
+            (clashes, (("any", (0,)), 0)), (never_cases, (("any", (0,)), 0)),
+        ):
+            with self.subTest(function=function):
+                before = self.answer(function, GREATEST, *arguments)
+                between = [self.answer(function, house, *arguments) for house in (other, later, LAST)]
+                self.assertNotEqual(between, [before] * 3)
+                self.same(self.answer(function, GREATEST, *arguments), before)
+
+    def test_uses_of_one_house(self):
+        for function, arguments in ((pairs, ()), (questions, (1, (1,))), (clashes, (1,)), (never_cases, (1,))):
+            with self.subTest(function=function):
+                uses = [use for use in all_uses(GREATEST) if 1 in use[1]]
+                before = [self.answer(function, GREATEST, use, *arguments) for use in uses]
+                self.assertNotEqual(before, before[:1] * len(before))
+                self.same([self.answer(function, GREATEST, use, *arguments) for use in uses], before)
+
+
+if __name__ == "__main__":
+    unittest.main()
