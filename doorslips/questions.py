@@ -1,8 +1,8 @@
 """Stage 6: doors, and the questions that are asked at them."""
 
 from doorslips.errors import UnknownKind
-from doorslips.forms import is_integer
 from doorslips.pairs import makes, pairs, ways
+from doorslips.uses import is_goer
 
 
 def doors(house):
@@ -13,15 +13,21 @@ def doors(house):
 
 def questions(house, use, kind, door):
     """Return the ascending tuple of the questions of a goer at a door; raise UnknownKind unless it is a goer."""
-    _require_goer(use, kind)
-    return tuple(sorted(question_ways(house, use, kind, door)))
+    require_goer(use, kind)
+    rests = [rest for first, rest in pairs(house, use) if first == door]
+    return tuple(sorted(_question_ways(makes(house), use, kind, rests)))
 
 
-def question_ways(house, use, kind, door):
-    """Return the ways to all questions of a goer at a door, by later kinds; each starts where nobody came later."""
+def asked(house, use, kind):
+    """Return a dict, ascending by the doors: from each door to the ways to all questions of a goer at it.
+
+    The ways lead by later kinds; each one starts where nobody came later.
+    """
     made = makes(house)
-    starts = [(made[kind][rest], rest) for first, rest in pairs(house, use) if first == door]
-    return ways(starts, lambda question: next_questions(made, use, question))
+    rests = {}
+    for first, rest in pairs(house, use):
+        rests.setdefault(first, []).append(rest)
+    return {door: _question_ways(made, use, kind, rests[door]) for door in rests}
 
 
 def next_questions(made, use, question):
@@ -34,8 +40,12 @@ def next_questions(made, use, question):
     ]
 
 
-def _require_goer(use, kind):
+def require_goer(use, kind):
     """Raise UnknownKind unless a value is a goer of the use."""
-    goers = use[1]
-    if not is_integer(kind, 0, goers[-1]) or kind not in goers:
+    if not is_goer(use, kind):
         raise UnknownKind(kind)
+
+
+def _question_ways(made, use, kind, rests):
+    """Return the ways to all questions at a door, by what the rests make of begin there."""
+    return ways([(made[kind][rest], rest) for rest in rests], lambda question: next_questions(made, use, question))

@@ -8,7 +8,7 @@ ORDERS = ("any", "oldest", "newest")
 
 def require_use(house, value):
     """Return the value if it is a use of the house; raise InvalidUse else."""
-    if not is_tuple(value, 2, 2) or not is_order(value[0]) or not is_set_of_kinds(house, value[1]):
+    if not is_use(house, value):
         raise InvalidUse()
     return value
 
@@ -22,6 +22,11 @@ def all_sets(house):
     return tuple(sorted(rows)[1:])
 
 
+def is_use(house, value):
+    """Tell whether a value is a use of the house."""
+    return is_tuple(value, 2, 2) and is_order(value[0]) and is_set_of_kinds(house, value[1])
+
+
 def is_order(value):
     """Tell whether a value is an order in which entries may go."""
     return value in ORDERS
@@ -31,3 +36,9 @@ def is_set_of_kinds(house, value):
     """Tell whether a value is a strictly ascending tuple of kinds, and not ()."""
     many = len(house[2])
     return is_tuple(value, 1, many) and all(is_integer(kind, 0, many - 1) for kind in value) and ascends(value)
+
+
+def is_goer(use, value):
+    """Tell whether a value is a goer of the use."""
+    goers = use[1]
+    return is_integer(value, 0, goers[-1]) and value in goers

@@ -158,6 +158,69 @@ def question_of(house, goer, case):
     return present, after(house, house[1], rest_of(case) + case[2])
 
 
+def told_with(house, use, pair, both=True, alone=True):
+    """Return the pairs that must be there with a pair, as point 8 tells them.
+
+    Either those of which the kind is done to both parts, or to the first one alone, may be left out.
+    """
+    order, goers = use
+    told = []
+    for kind in range(len(house[2])):
+        first, second = (after(house, content, (kind,)) for content in pair)
+        if both and (kind not in goers or order in ("any", "newest")):
+            told.append((first, second))
+        if alone and kind in goers and order in ("any", "oldest"):
+            told.append((first, pair[1]))
+    return told
+
+
+def entries_after(use, history):
+    """Return the list of (number, kind) of those who are in after a history, or None if the use does not let it."""
+    order, goers = use
+    there, came = [], 0
+    for word, number in history:
+        if word == "in":
+            there.append((number, came))
+            came += 1
+            continue
+        theirs = [(kind, entry) for kind, entry in there if kind in goers]
+        turns = {"any": theirs, "oldest": theirs[0:1], "newest": theirs[-1:]}[order]
+        going = [pair for pair in turns if pair[1] == number]
+        if not going:
+            return None
+        there.remove(going[0])
+    return [(entry, kind) for kind, entry in there]
+
+
+def all_histories(house, use, most):
+    """Return all histories of the use with at most so many events."""
+    found = fresh = [()]
+    for _ in range(most):
+        events = [("in", kind) for kind in range(len(house[2]))] + [("out", number) for number in range(most)]
+        fresh = [row + (event,) for row in fresh for event in events if entries_after(use, row + (event,)) is not None]
+        found = found + fresh
+    return found
+
+
+def drawn_history(house, use, draw, events):
+    """Return a history of the use with as many events, drawn so that entries come and go."""
+    history, there = [], []
+    many = 0
+    leaning = draw.choice((0.3, 0.5, 0.7))
+    while len(history) < events:
+        theirs = [number for number, kind in there if kind in use[1]]
+        if theirs and draw.random() < leaning:
+            number = {"any": draw.choice(theirs), "oldest": theirs[0], "newest": theirs[-1]}[use[0]]
+            there = [entry for entry in there if entry[0] != number]
+            history.append(("out", number))
+        else:
+            kind = draw.randrange(len(house[2]))
+            there.append((many, kind))
+            many += 1
+            history.append(("in", kind))
+    return tuple(history)
+
+
 def cells(*pairs_of_values):
     """Return pairs of contents of one cell."""
     return tuple(((one,), (two,)) for one, two in pairs_of_values)

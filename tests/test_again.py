@@ -3,10 +3,15 @@
 import unittest
 
 from doorslips.clashes import clashes, never_cases
+from doorslips.exchanges import exchange_of
 from doorslips.histories import due, inside, is_history
+from doorslips.keepers import first_error, keeper_of, played, require_keeper
 from doorslips.pairs import pairs
 from doorslips.questions import doors, questions
-from tests.helper import GREATEST, HOUSES, LAST, Case, all_uses
+from doorslips.sets import best_goers, best_worth, sets_that_go
+from doorslips.slips import classes, least_slips
+from tests.helper import GREATEST, HOUSES, LAST, ORDERS, Case, all_uses
+from tests.keeping import own_slips, uses_that_go
 
 
 def answers_of(case, house):
@@ -21,7 +26,18 @@ def answers_of(case, house):
         found.append(case.answer(pairs, house, use))
         for kind in use[1]:
             found += [case.answer(questions, house, use, kind, door) for door in doors(house)]
-            found += [case.answer(clashes, house, use, kind), case.answer(never_cases, house, use, kind)]
+            for function in (clashes, never_cases, least_slips, classes):
+                found.append(case.answer(function, house, use, kind))
+        keeper = own_slips(house, use)
+        found.append(case.answer(require_keeper, house, use, keeper))
+        found.append(case.answer(played, house, use, keeper, history[:3]))
+        found.append(case.answer(first_error, house, use, keeper))
+        found.append(case.answer(exchange_of, house, use, keeper, keeper))
+    found += [case.answer(keeper_of, house, use) for use in uses_that_go(house)]
+    for order in ORDERS:
+        worths = tuple(range(len(house[2])))
+        found.append(case.answer(sets_that_go, house, order))
+        found += [case.answer(function, house, order, worths, 6) for function in (best_worth, best_goers)]
     return found
 
 
@@ -37,15 +53,23 @@ class TestAgain(Case):
         for function, arguments in (
             (due, (("any", (0,)), (("in", 1),))), (pairs, (("any", (0,)),)), (questions, (("any", (0,)), 0, (1,))),
             (clashes, (("any", (0,)), 0)), (never_cases, (("any", (0,)), 0)),
+            (least_slips, (("newest", (0, 1)), 1)), (classes, (("newest", (0, 1)), 0)),
+            (keeper_of, (("newest", (0, 1)),)),
+            (first_error, (("newest", (0,)), keeper_of(GREATEST, ("newest", (0,))))),
+            (sets_that_go, ("oldest",)), (best_worth, ("newest", (1, 5, 9), 2)), (best_goers, ("newest", (1, 5, 9), 2)),
         ):
             with self.subTest(function=function):
                 before = self.answer(function, GREATEST, *arguments)
-                between = [self.answer(function, house, *arguments) for house in (other, later, LAST)]
-                self.assertNotEqual(between, [before] * 3)
+                houses = (other, later) if function in (best_worth, best_goers) else (other, later, LAST)
+                between = [self.answer(function, house, *arguments) for house in houses]
+                self.assertNotEqual(between, [before] * len(between))
                 self.same(self.answer(function, GREATEST, *arguments), before)
 
     def test_uses_of_one_house(self):
-        for function, arguments in ((pairs, ()), (questions, (1, (1,))), (clashes, (1,)), (never_cases, (1,))):
+        for function, arguments in (
+            (pairs, ()), (questions, (1, (1,))), (clashes, (1,)), (never_cases, (1,)), (least_slips, (1,)),
+            (classes, (1,)),
+        ):
             with self.subTest(function=function):
                 uses = [use for use in all_uses(GREATEST) if 1 in use[1]]
                 before = [self.answer(function, GREATEST, use, *arguments) for use in uses]

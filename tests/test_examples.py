@@ -45,6 +45,34 @@
 >>> newest = ("newest", (0, 1, 2))
 >>> (clashes(greatest, newest, 1), never_cases(greatest, newest, 1))
 ((((0,), (1,)),), None)
+
+>>> from doorslips.slips import least_slips
+>>> greatest = ((3,), (0,), ((("raise", 0, 0),), (("raise", 0, 1),), (("raise", 0, 2),)))
+>>> newest = ("newest", (0, 1, 2))
+>>> eight = ((8,), (0,), ((("set", 0, 0),), (("add", 0, 1),)))
+>>> ([least_slips(greatest, newest, kind) for kind in range(3)], least_slips(greatest, ("any", (0, 1, 2)), 2), least_slips(eight, ("newest", (0,)), 0))
+([1, 2, 3], None, 8)
+
+>>> from doorslips.keepers import first_error, keeper_of, played
+>>> first = (("when", 0, 0, 0, ("add", 1, 1)), ("when", 0, 1, 1, ("add", 1, 2)))
+>>> turn = ((2, 3), (0, 0), (first, (("add", 0, 1),)))
+>>> use, events = ("oldest", (0, 1)), (("in", 0), ("in", 1), ("in", 0), ("out", 0))
+>>> (played(turn, use, keeper_of(turn, use), events), first_error(turn, ("any", (0,)), ((), ())))
+((1, 2), (('in', 0),))
+
+>>> from doorslips.exchanges import exchange_of
+>>> from doorslips.keepers import first_error
+>>> last, use = ((3,), (0,), ((("set", 0, 1),), (("set", 0, 2),))), ("newest", (0,))
+>>> poor = (((0, (0,), 0), (0, (1,), 0), (0, (2,), 0)), ((0, 0, (1,), (0,)), (0, 0, (2,), (2,))))
+>>> rich = (((0, (0,), 0), (0, (1,), 1), (0, (2,), 2)), ())
+>>> (exchange_of(last, use, rich, poor), exchange_of(last, use, poor, rich), len(first_error(last, use, poor)))
+(((0, 0, 0), (0, 1, 0), (0, 2, 0)), None, 3)
+
+>>> from doorslips.sets import best_worth, sets_that_go
+>>> first = (("when", 0, 0, 0, ("add", 1, 1)), ("when", 0, 1, 1, ("add", 1, 2)))
+>>> turn = ((2, 3), (0, 0), (first, (("add", 0, 1),)))
+>>> (sets_that_go(turn, "oldest"), best_worth(turn, "oldest", (5, 3), 2), best_worth(turn, "oldest", (5, 3), 1))
+(((0,), (0, 1)), 8, None)
 """
 
 import doctest
@@ -63,7 +91,7 @@ class TestExamples(unittest.TestCase):
         self.assertEqual(failed, 0)
 
     def test_the_interface(self):
-        self.run_examples(__doc__, 30)
+        self.run_examples(__doc__, 50)
 
     def test_the_readme(self):
         # The fence behind an example's answer is no part of that answer.

@@ -4,41 +4,14 @@ import unittest
 from doorslips.histories import due, inside, is_history
 from doorslips.kinds import after
 from tests.helper import (
-    EIGHT, FOUR, GATE, GREATEST, HOUSES, HUGE, LAST, NOWHERE, ORDERS, TURN, Case, all_uses, nested, some_houses,
+    EIGHT, FOUR, GATE, GREATEST, HOUSES, HUGE, LAST, NOWHERE, ORDERS, TURN, Case, all_histories, all_uses,
+    entries_after, nested, some_houses,
 )
 
 
 def history_of(*signs):
     """Return a history: +k for an entry of kind k that comes, -n for the entry n that goes."""
     return tuple(("in" if sign[0] == "+" else "out", int(sign[1:])) for sign in signs)
-
-
-def entries_after(use, history):
-    """Return the list of (number, kind) of those who are in after a history, or None if the use does not let it."""
-    order, goers = use
-    there, came = [], 0
-    for word, number in history:
-        if word == "in":
-            there.append((number, came))
-            came += 1
-            continue
-        theirs = [(kind, entry) for kind, entry in there if kind in goers]
-        turns = {"any": theirs, "oldest": theirs[0:1], "newest": theirs[-1:]}[order]
-        going = [pair for pair in turns if pair[1] == number]
-        if not going:
-            return None
-        there.remove(going[0])
-    return [(entry, kind) for kind, entry in there]
-
-
-def all_histories(house, use, most):
-    """Return all histories of the use with at most so many events."""
-    found = fresh = [()]
-    for _ in range(most):
-        events = [("in", kind) for kind in range(len(house[2]))] + [("out", number) for number in range(most)]
-        fresh = [row + (event,) for row in fresh for event in events if entries_after(use, row + (event,)) is not None]
-        found = found + fresh
-    return found
 
 
 class HistoryCase(Case):

@@ -57,6 +57,10 @@ INTERFACE = {
     "pairs": ("pairs",),
     "questions": ("doors", "questions"),
     "clashes": ("clashes", "never_cases"),
+    "slips": ("least_slips", "classes"),
+    "keepers": ("require_keeper", "keeper_of", "played", "first_error"),
+    "exchanges": ("exchange_of",),
+    "sets": ("sets_that_go", "best_worth", "best_goers"),
 }
 
 

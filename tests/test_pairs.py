@@ -1,26 +1,13 @@
 import unittest
 
-from doorslips.kinds import after
 from doorslips.pairs import pairs
 from tests.helper import (
     EIGHT, GATE, GREATEST, HOUSES, LAST, SUM, TURN, WINDOW, Case, all_cases, all_uses, cells, pair_of, some_houses,
+    told_with,
 )
 
 # With so many comers at most, the cases of these houses have all pairs of each use.
 ENOUGH = ((TURN, 6), (GREATEST, 2), (LAST, 2), (SUM, 4), (WINDOW, 4), (GATE, 5))
-
-
-def told_with(house, use, pair):
-    """Return the pairs that must be there with a pair, as point 8 tells them."""
-    order, goers = use
-    told = []
-    for kind in range(len(house[2])):
-        first, second = (after(house, content, (kind,)) for content in pair)
-        if kind not in goers or order in ("any", "newest"):
-            told.append((first, second))
-        if kind in goers and order in ("any", "oldest"):
-            told.append((first, pair[1]))
-    return told
 
 
 class PairsCase(Case):
