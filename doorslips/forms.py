@@ -15,3 +15,17 @@ def is_tuple(value, least, most):
 def ascends(parts):
     """Tell whether the parts of a tuple ascend strictly."""
     return all(one < two for one, two in zip(parts, parts[1:]))
+
+
+def are_rows(value, forms, key):
+    """Tell whether a value is a tuple of rows that ascend strictly by so many of their first parts.
+
+    forms are functions, one for each part of a row, that tell whether a value may stand there.
+    """
+    if not isinstance(value, tuple) or not all(_is_row(row, forms) for row in value):
+        return False
+    return ascends([row[:key] for row in value])
+
+
+def _is_row(value, forms):
+    return is_tuple(value, len(forms), len(forms)) and all(form(part) for form, part in zip(forms, value))

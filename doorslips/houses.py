@@ -15,7 +15,7 @@ def require_house(value):
     if not is_tuple(value, 3, 3) or not is_tuple(value[2], 1, MOST_KINDS):
         raise InvalidHouse(None)
     sizes, begin, kinds = value
-    if not _are_sizes(sizes):
+    if not are_sizes(sizes):
         raise InvalidHouse(("sizes",))
     if not is_content(sizes, begin):
         raise InvalidHouse(("begin",))
@@ -33,19 +33,8 @@ def contents(house):
     return tuple(rows)
 
 
-def is_content(sizes, value):
-    """Tell whether a value is a content of cells of these sizes."""
-    if not is_tuple(value, len(sizes), len(sizes)):
-        return False
-    return all(is_integer(part, 0, size - 1) for part, size in zip(value, sizes))
-
-
-def is_kind(sizes, value):
-    """Tell whether a value is a kind for cells of these sizes."""
-    return is_tuple(value, 0, MOST_STEPS) and all(_is_step(sizes, step) for step in value)
-
-
-def _are_sizes(value):
+def are_sizes(value):
+    """Tell whether a value is a tuple of sizes of cells."""
     if not is_tuple(value, 1, MOST_CELLS):
         return False
     many = 1
@@ -54,6 +43,23 @@ def _are_sizes(value):
             return False
         many = many * size
     return many <= MOST_CONTENTS
+
+
+def is_content(sizes, value):
+    """Tell whether a value is a content of cells of these sizes."""
+    if not is_tuple(value, len(sizes), len(sizes)):
+        return False
+    return all(is_integer(part, 0, size - 1) for part, size in zip(value, sizes))
+
+
+def content_form(house):
+    """Return a function that tells whether a value is a content of the house."""
+    return lambda value: is_content(house[0], value)
+
+
+def is_kind(sizes, value):
+    """Tell whether a value is a kind for cells of these sizes."""
+    return is_tuple(value, 0, MOST_STEPS) and all(_is_step(sizes, step) for step in value)
 
 
 def _is_step(sizes, value):

@@ -3,12 +3,12 @@
 from doorslips.clashes import clashing
 from doorslips.costs import door_costs, pair_costs, row_costs, way_back
 from doorslips.errors import InvalidKeeper, Never
-from doorslips.forms import ascends, is_integer, is_tuple
-from doorslips.houses import is_content
+from doorslips.forms import are_rows, is_integer, is_tuple
+from doorslips.houses import content_form
 from doorslips.pairs import makes
 from doorslips.questions import asked
 from doorslips.slips import parted
-from doorslips.uses import is_goer
+from doorslips.uses import goer_form
 
 GREATEST_SLIP = 7
 
@@ -56,14 +56,10 @@ def first_error(house, use, keeper):
 
 def is_keeper(house, use, value):
     """Tell whether a value is a keeper of the house and the use."""
-    if not is_tuple(value, 2, 2) or not isinstance(value[0], tuple) or not isinstance(value[1], tuple):
+    if not is_tuple(value, 2, 2):
         return False
-    slips, goings = value
-    if not all(_is_slip_row(house, use, row) for row in slips):
-        return False
-    if not all(_is_going_row(house, use, row) for row in goings):
-        return False
-    return ascends([row[:2] for row in slips]) and ascends([row[:3] for row in goings])
+    goer, content = goer_form(use), content_form(house)
+    return are_rows(value[0], (goer, content, is_slip), 2) and are_rows(value[1], (goer, is_slip, content, content), 3)
 
 
 def is_slip(value):
@@ -111,22 +107,9 @@ def contents_played(house, use, keeper, history):
 
 def _history_to(at_pairs, at_rows, row):
     """Return the history that leads to a row (goer, slip, present, wanted), and at whose end the goer goes."""
-    pair, *later = way_back(at_rows, row)
+    hows = way_back(at_rows, row)
+    pair, later = hows[0], hows[1:]
     came = way_back(at_pairs, pair)[1:]
     coming = [("in", kind) for kind, _ in came] + [("in", row[0])]
     going = [("out", index) for index, (_, goes) in enumerate(came) if goes]
     return tuple(coming + going + [("in", kind) for kind in later] + [("out", len(came))])
-
-
-def _is_slip_row(house, use, value):
-    if not is_tuple(value, 3, 3):
-        return False
-    kind, content, slip = value
-    return is_goer(use, kind) and is_content(house[0], content) and is_slip(slip)
-
-
-def _is_going_row(house, use, value):
-    if not is_tuple(value, 4, 4):
-        return False
-    kind, slip, content, newer = value
-    return is_goer(use, kind) and is_slip(slip) and is_content(house[0], content) and is_content(house[0], newer)

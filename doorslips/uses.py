@@ -42,3 +42,8 @@ def is_goer(use, value):
     """Tell whether a value is a goer of the use."""
     goers = use[1]
     return is_integer(value, 0, goers[-1]) and value in goers
+
+
+def goer_form(use):
+    """Return a function that tells whether a value is a goer of the use."""
+    return lambda value: is_goer(use, value)

@@ -28,6 +28,10 @@ WINDOW = ((2, 2), (0, 0), ((("copy", 1, 0), ("set", 0, 0)), (("copy", 1, 0), ("s
 GATE = ((2, 2), (1, 0), ((("when", 0, 1, 1, ("add", 1, 1)),), (("set", 0, 1),), (("set", 0, 0),)))
 FOUR = ((2, 2, 2), (0, 1, 0), ((("swap", 0, 1),), (), (("add", 2, 1), ("copy", 0, 2)), (("lower", 1, 0),)))
 
+ROUND = ((8,), (0,), ((("add", 0, 1),),))
+# The first kind counts up to 7 and no further, the second one counts around, the third does nothing.
+COUNTS = ((8,), (0,), ((("up", 0, 1),), (("add", 0, 1),), (), (("when", 0, 0, 6, ("add", 0, 1)),)))
+
 HOUSES = (TURN, GREATEST, LAST, SUM, EIGHT, WINDOW, GATE, FOUR)
 
 ALL_SIZES = (

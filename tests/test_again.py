@@ -2,6 +2,8 @@
 
 import unittest
 
+from doorslips.checker import first_fault
+from doorslips.claims import decide, require_claim
 from doorslips.clashes import clashes, never_cases
 from doorslips.exchanges import exchange_of
 from doorslips.histories import due, inside, is_history
@@ -10,6 +12,9 @@ from doorslips.pairs import pairs
 from doorslips.questions import doors, questions
 from doorslips.sets import best_goers, best_worth, sets_that_go
 from doorslips.slips import classes, least_slips
+from doorslips.texts import format_house, format_use, parse_house, parse_use
+from doorslips.windows import Window
+from tests.claiming import claims_about, drawn
 from tests.helper import GREATEST, HOUSES, LAST, ORDERS, Case, all_uses
 from tests.keeping import own_slips, uses_that_go
 
@@ -38,6 +43,31 @@ def answers_of(case, house):
         worths = tuple(range(len(house[2])))
         found.append(case.answer(sets_that_go, house, order))
         found += [case.answer(function, house, order, worths, 6) for function in (best_worth, best_goers)]
+    for claim in claims_about(house, all_uses(house)[:2], drawn("again"), ("any",)):
+        certificate = case.answer(decide, house, claim)
+        found += [case.answer(require_claim, house, claim), certificate]
+        found += [case.answer(first_fault, house, value) for value in (certificate, certificate[1:] + certificate[:1])]
+    return found + answers_of_windows(case, house) + answers_of_texts(case, house)
+
+
+def answers_of_windows(case, house):
+    """Return the answers of some windows of a house."""
+    found = []
+    for use in uses_that_go(house)[:3]:
+        window = case.answer(Window, house, use)
+        numbers = [window.enter(use[1][0]), window.enter(0), window.checkpoint(), window.record(("can", use))]
+        found += [numbers, window.content(), window.due(), window.inside(), window.keeper(), window.recorded(0)]
+        found += [window.slip(0), window.case(0), window.standing(0), len(window)]
+    return found
+
+
+def answers_of_texts(case, house):
+    """Return the answers of the functions of texts."""
+    text = case.answer(format_house, house)
+    found = [text, case.answer(parse_house, text)]
+    for use in all_uses(house):
+        line = case.answer(format_use, use)
+        found += [line, case.answer(parse_use, line, house)]
     return found
 
 

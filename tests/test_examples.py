@@ -1,4 +1,4 @@
-"""The examples of the interface, and those of README.md, as they stand there.
+r"""The examples of the interface, and those of README.md, as they stand there.
 
 >>> from doorslips.houses import contents
 >>> first = (("when", 0, 0, 0, ("add", 1, 1)), ("when", 0, 1, 1, ("add", 1, 2)))
@@ -73,6 +73,33 @@
 >>> turn = ((2, 3), (0, 0), (first, (("add", 0, 1),)))
 >>> (sets_that_go(turn, "oldest"), best_worth(turn, "oldest", (5, 3), 2), best_worth(turn, "oldest", (5, 3), 1))
 (((0,), (0, 1)), 8, None)
+
+>>> from doorslips.claims import decide
+>>> first = (("when", 0, 0, 0, ("add", 1, 1)), ("when", 0, 1, 1, ("add", 1, 2)))
+>>> turn = ((2, 3), (0, 0), (first, (("add", 0, 1),)))
+>>> (decide(turn, ("can", ("any", (1,))))[0], decide(turn, ("least", ("any", (0,)), 0, 2))[0])
+('broken', 'shown')
+
+>>> from doorslips.checker import first_fault
+>>> first = (("when", 0, 0, 0, ("add", 1, 1)), ("when", 0, 1, 1, ("add", 1, 2)))
+>>> turn = ((2, 3), (0, 0), (first, (("add", 0, 1),)))
+>>> first_fault(turn, ("shown", ("never", ("any", (1,)), 1), (((), (), ()), ((), (), ()))))
+('wanted',)
+
+>>> from doorslips.windows import Window
+>>> first = (("when", 0, 0, 0, ("add", 1, 1)), ("when", 0, 1, 1, ("add", 1, 2)))
+>>> turn = ((2, 3), (0, 0), (first, (("add", 0, 1),)))
+>>> window = Window(turn, ("oldest", (0, 1)))
+>>> numbers = [window.enter(0), window.enter(1)]
+>>> window.leave(0)
+>>> (numbers, window.content(), window.due(), window.inside(), len(window))
+([0, 1], (1, 0), (1, 0), (1,), 3)
+
+>>> from doorslips.texts import format_house, format_use
+>>> first = (("when", 0, 0, 0, ("add", 1, 1)), ("when", 0, 1, 1, ("add", 1, 2)))
+>>> turn = ((2, 3), (0, 0), (first, (("add", 0, 1),)))
+>>> (format_house(turn), format_use(("oldest", (0, 1))))
+('cells 2 3\nbegin 0 0\nkind\nwhen 0 0 0 add 1 1\nwhen 0 1 1 add 1 2\nkind\nadd 0 1\n', 'oldest 0 1\n')
 """
 
 import doctest
@@ -91,7 +118,7 @@ class TestExamples(unittest.TestCase):
         self.assertEqual(failed, 0)
 
     def test_the_interface(self):
-        self.run_examples(__doc__, 50)
+        self.run_examples(__doc__, 70)
 
     def test_the_readme(self):
         # The fence behind an example's answer is no part of that answer.

@@ -9,16 +9,13 @@ from doorslips.keepers import first_error, keeper_of, played, require_keeper
 from doorslips.questions import doors, questions
 from doorslips.slips import least_slips
 from tests.helper import (
-    EIGHT, FOUR, GATE, GREATEST, HOUSES, HUGE, LAST, NOWHERE, ORDERS, SUM, TURN, WINDOW, Case, all_histories, all_uses,
-    drawn_history, nested, paths, put, some_houses,
+    COUNTS, EIGHT, FOUR, GATE, GREATEST, HOUSES, HUGE, LAST, NOWHERE, ORDERS, ROUND, SUM, TURN, WINDOW, Case,
+    all_histories, all_uses, drawn_history, nested, paths, put, some_houses,
 )
 from tests.keeping import least_error_by_events, own_slips, plays, spoiled, uses_that_go
 
 NEWEST = ("newest", (0,))
 POOR = (((0, (0,), 0), (0, (1,), 0), (0, (2,), 0)), ((0, 0, (1,), (0,)), (0, 0, (2,), (2,))))
-ROUND = ((8,), (0,), ((("add", 0, 1),),))
-# The first kind counts up to 7 and no further, the second one counts around, the third does nothing.
-COUNTS = ((8,), (0,), ((("up", 0, 1),), (("add", 0, 1),), (), (("when", 0, 0, 6, ("add", 0, 1)),)))
 
 
 class KeeperCase(Case):

@@ -61,7 +61,18 @@ INTERFACE = {
     "keepers": ("require_keeper", "keeper_of", "played", "first_error"),
     "exchanges": ("exchange_of",),
     "sets": ("sets_that_go", "best_worth", "best_goers"),
+    "claims": ("require_claim", "decide"),
+    "checker": ("first_fault",),
+    "windows": ("Window",),
+    "texts": ("format_house", "format_use", "parse_house", "parse_use"),
 }
+
+# The methods that stand in the body of the class itself.
+METHODS_OF_WINDOW = (
+    "__init__", "__len__", "enter", "leave", "content", "due", "is_due", "inside", "kind_of", "slip", "case", "use",
+    "keeper", "set_use", "set_kind", "house", "set_keeper", "checkpoint", "restore", "decide", "record", "records",
+    "recorded", "standing",
+)
 
 
 def imports_of(tree):
@@ -218,6 +229,14 @@ class TestLanguage(unittest.TestCase):
             for name in listed:
                 with self.subTest(file=file, name=name):
                     self.assertEqual(defined.count(name), 1)
+
+    def test_the_methods_are_defined_in_the_class_itself(self):
+        classes = [node for node in self.trees["windows"].body if isinstance(node, ast.ClassDef)]
+        self.assertEqual([node.name for node in classes], ["Window"])
+        defined = [node.name for node in classes[0].body if isinstance(node, ast.FunctionDef)]
+        for name in METHODS_OF_WINDOW:
+            with self.subTest(name=name):
+                self.assertEqual(defined.count(name), 1)
 
 
 if __name__ == "__main__":
