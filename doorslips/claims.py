@@ -34,17 +34,17 @@ def _least(house, claim):
     if least is None:
         return "broken", ("never", study.never())
     if least < many:
-        return "broken", ("less", study.part())
+        return "broken", ("less", study.right_part())
     if least > many:
         return "broken", ("more",) + study.bound(many)
-    return "shown", (study.part(),) + study.bound(many - 1)
+    return "shown", (study.right_part(),) + study.bound(many - 1)
 
 
 def _never(house, claim):
     study = Study(house, claim[1], claim[2])
     if study.least() is None:
         return "shown", study.never()
-    return "broken", study.part()
+    return "broken", study.right_part()
 
 
 def _can(house, claim):
@@ -145,7 +145,7 @@ def _answer(studies):
 
 
 def _parts(studies):
-    return tuple(study.part() for _, study in studies)
+    return tuple(study.right_part() for _, study in studies)
 
 
 def _is_within(studies, most):

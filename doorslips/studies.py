@@ -20,7 +20,7 @@ class Study:
         """Return the least number of slips, or None."""
         return None if self.given is None else number_of(self.given)
 
-    def part(self):
+    def right_part(self):
         """Return a right part with the least number of slips; the goer can go."""
         return tuple(sorted(self.came)), self.given, tuple(question_rows(self.at_doors, self.given))
 
@@ -37,8 +37,11 @@ class Study:
 
     def _ranked(self):
         """Return the list of the doors, those with the most clashes first: their classes are soon too many."""
-        counts = [(-sum(1 for doors in self.odds if door in doors), door) for door in self.at_doors]
-        return [door for _, door in sorted(counts)]
+        counts = {door: 0 for door in self.at_doors}
+        for one, two in self.odds:
+            counts[one] -= 1
+            counts[two] -= 1
+        return [door for _, door in sorted((count, door) for door, count in counts.items())]
 
 
 def _tree(odds, many, left, classes, fresh, numbers):

@@ -60,10 +60,11 @@ def least_error_by_events(house, use, keeper, most):
     given = {row[:2]: row[2] for row in keeper[0]}
     goings = {row[:3]: row[3] for row in keeper[1]}
     at_pairs, at_rows = {-1: set(), 0: {(house[1], house[1])}}, {0: set()}
+    at_doors = {house[1]}
     for events in range(most):
-        for door in {door for door, _ in at_pairs[events]}:
-            if any((goer, door) not in given for goer in use[1]):
-                return events + 1
+        if any((goer, door) not in given for door in at_doors for goer in use[1]):
+            return events + 1
+        at_doors = {after(house, door, (kind,)) for door in at_doors for kind in range(len(house[2]))}
         for goer, slip, present, wanted in at_rows[events]:
             if goings.get((goer, slip, present)) != wanted:
                 return events + 1

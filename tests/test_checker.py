@@ -58,7 +58,10 @@ class TestForm(CheckerCase):
                     self.fault(LAST, (word, claim, content), ("claim",))
 
     def test_other_words(self):
-        for word in ("", "Shown", "shown ", "show", "true", None, True, 0, ("shown",), ["shown"], {"shown": 1}, b"shown"):
+        for word in (
+            "", "Shown", "shown ", "show", "true", None, True, 0, ("shown",), ["shown"], {"shown": 1},
+            ("shown", "broken"),
+        ):
             for claim in (("can", NEWEST), ("least", NEWEST, 0, 3), ("right", NEWEST, ((), ()))):
                 shown = decide(LAST, claim)
                 self.fault(LAST, (word,) + shown[1:], ("form",))
@@ -127,6 +130,13 @@ class TestParts(PartCase):
             self.part((PART[0], doors, PART[2]), ("door", at))
         self.part((PART[0], (), ()), ("door", 0))
         self.part((cells((0, 0), (0, 2), (1, 1), (2, 2)), PART[1][:1] + PART[1][2:], ()), ("door", 2))
+
+    def test_door_of_the_first_part(self):
+        # By "oldest", the pair (1, 2) is there, too: it is its first part that must have a slip.
+        claim = ("never", ("oldest", (0,)), 0)
+        there = cells((0, 0), (1, 0), (1, 2), (2, 2))
+        self.fault(LAST, ("broken", claim, (there, (((0,), 0), ((1,), 0)), ())), ("part", ("door", 3)))
+        self.fault(LAST, ("broken", claim, (there, (((0,), 0), ((2,), 0)), ())), ("part", ("door", 1)))
 
     def test_none(self):
         # 0 is made by nobody: with pairs of 1 and 2 alone it is no first part.
@@ -198,7 +208,8 @@ class TestParts(PartCase):
         doors = tuple((content, 0) for content in contents(house))
         part = decide(house, ("never", ("newest", (0, 1)), 0))[2]
         self.assertEqual(len(part[0]), 3)
-        more = (cells((0, 0), (1, 1), (2, 2), (3, 3)), part[1] + (((3,), 0),), tuple(sorted(part[2] + ((0, (3,), (3,)),))))
+        rows = tuple(sorted(part[2] + ((0, (3,), (3,)),)))
+        more = (cells((0, 0), (1, 1), (2, 2), (3, 3)), part[1] + (((3,), 0),), rows)
         self.right(house, ("broken", ("never", ("newest", (0, 1)), 0), more))
         self.fault(
             house, ("broken", ("never", ("newest", (0, 1)), 0), more[:2] + (part[2],)), ("part", ("row", 3))
@@ -223,7 +234,59 @@ class TestParts(PartCase):
                 self.assertEqual(found[1][0], name[0], (name, other))
 
 
+class TestFormsOfParts(PartCase):
+    def form(self, part):
+        self.fault(LAST, ("broken", ("never", NEWEST, 0), part), ("form",))
+        self.fault(LAST, ("broken", ("least", NEWEST, 0, 8), ("less", part)), ("form",))
+        self.fault(LAST, ("shown", ("least", NEWEST, 0, 3), (part, LINES, TREE)), ("form",))
+        self.fault(LAST, ("shown", ("can", NEWEST), (part,)), ("form",))
+
+    def test_parts(self):
+        for part in ((), PART[:2], PART + ((),), list(PART), None, (PART,), (None,) + PART[1:], PART[:2] + (None,)):
+            self.form(part)
+
+    def test_pairs(self):
+        for there in (
+            PART[0][::-1], PART[0][:1] + PART[0], (((0,), (0,), (0,)),), (((0,),),), cells((0, 3)), cells((0, -1)),
+            (((0,), (True,)),), (((0,), 0),), (((), (0,)),), (((0, 0), (0,)),), (0,), ((0, 0),), (None,),
+        ):
+            self.form((there,) + PART[1:])
+
+    def test_doors(self):
+        for there in (
+            PART[1][::-1], PART[1] + PART[1][2:], PART[1] + (((2,), 3),), (((0,), 0), ((0,), 1)), (((0,), 8),),
+            (((0,), -1),),
+            (((0,), True),), (((3,), 0),), (((0,), 0, 0),), (((0,),),), ((0, 0),), (0,), (((0,), None),),
+        ):
+            self.form((PART[0], there, PART[2]))
+
+    def test_rows(self):
+        for there in (
+            PART[2][::-1], PART[2] + PART[2][5:], ((8, (0,), (0,)),), ((-1, (0,), (0,)),), ((False, (0,), (0,)),),
+            ((0, (3,), (0,)),), ((0, (0,), (3,)),), ((0, (0,)),), ((0, (0,), (0,), (0,)),), (((0,), (0,), 0),), (0,),
+        ):
+            self.form(PART[:2] + (there,))
+
+
 class TestCases(CheckerCase):
+    def test_forms(self):
+        good = AT_0
+        for case in (
+            (), ((), ()), ((), (), (), ()), [(), (), ()], ([], (), ()), ((), [], ()), ((), (), []), None, 0,
+            ((2,), (), ()),
+            ((-1,), (), ()), ((True,), (), ()), ((), (), (2,)), ((), (), (False,)), ((0,), (1,), ()), ((0,), (-1,), ()),
+            ((0, 0), (1, 0), ()), ((0, 0), (0, 0), ()), ((0, 0), (False,), ()), ((), (0,), ()), (0, (), ()),
+            ((), 0, ()),
+        ):
+            use = ("any", (0,))
+            for cases in ((good, case), (case, good)):
+                self.never(LAST, use, 0, cases, ("form",))
+                self.fault(LAST, ("broken", ("can", use), (0, cases)), ("form",))
+                self.fault(LAST, ("broken", ("least", use, 0, 3), ("never", cases)), ("form",))
+                self.fault(LAST, ("broken", ("least", use, 0, 3), ("more", (cases,), TREE)), ("form",))
+        for cases in ((), (good,), (good, good, good), [good, good], None):
+            self.never(LAST, ("any", (0,)), 0, cases, ("form",))
+
     def never(self, house, use, goer, cases, expected):
         self.fault(house, ("shown", ("never", use, goer), cases), expected)
 
@@ -239,7 +302,8 @@ class TestCases(CheckerCase):
     def test_gone(self):
         one = ((), (), ())
         for use, case in (
-            (("any", (0,)), ((1,), (0,), ())), (("any", (0,)), ((0, 1), (0, 1), ())), (("any", (0,)), ((1, 0), (0,), ())),
+            (("any", (0,)), ((1,), (0,), ())), (("any", (0,)), ((0, 1), (0, 1), ())),
+            (("any", (0,)), ((1, 0), (0,), ())),
             (("oldest", (0,)), ((0,), (), ())), (("oldest", (0,)), ((0, 0), (0,), ())),
             (("oldest", (0,)), ((0, 0), (1,), ())), (("oldest", (0,)), ((0, 1), (0, 1), ())),
             (("oldest", (0,)), ((1,), (0,), ())), (("oldest", (0, 1)), ((0, 1), (0,), ())),
@@ -492,7 +556,8 @@ class TestCan(CheckerCase):
             wrong = parts[:index] + ((parts[index][0][1:],) + parts[index][1:],) + parts[index + 1:]
             self.fault(GREATEST, certificate[:2] + (wrong,), ("part", index, ("start",)))
             last = (parts[index][0], parts[index][1][:2], parts[index][2])
-            self.fault(GREATEST, certificate[:2] + (parts[:index] + (last,) + parts[index + 1:],), ("part", index, ("door", 2)))
+            wrong_there = parts[:index] + (last,) + parts[index + 1:]
+            self.fault(GREATEST, certificate[:2] + (wrong_there,), ("part", index, ("door", 2)))
         self.fault(GREATEST, certificate[:2] + ((wrong[2],) * 3,), ("part", 0, ("start",)))
         # The parts are those of the goers in their order.
         self.fault(GREATEST, certificate[:2] + ((parts[1], parts[0], parts[2]),), ("part", 0, ("row", 0)))
@@ -504,7 +569,10 @@ class TestCan(CheckerCase):
         cases = (((1,), (), ()), ((1,), (0,), ()))
         self.right(GREATEST, ("broken", claim, (1, cases)))
         self.fault(GREATEST, ("broken", claim, (0, cases)), ("present",))
-        self.fault(GREATEST, ("broken", claim, (2, cases)), ("form",))
+        for content in (
+            (2, cases), (True, cases), (1,), (1, cases, ()), (1, cases[:1]), (cases, 1), (None, cases), cases,
+        ):
+            self.fault(GREATEST, ("broken", claim, content), ("form",))
         self.fault(GREATEST, ("broken", claim, (1, (cases[0], ((0,), (), ())))), ("door",))
         self.fault(GREATEST, ("broken", ("can", ("newest", (0, 1))), (1, cases)), ("case", 1, "gone"))
 
@@ -565,7 +633,10 @@ class TestSets(CheckerCase):
             self.fault(TURN, ("broken", ("sets", "oldest", sets), (word, goers, kind, cases)), ("among",))
             self.fault(TURN, ("broken", ("sets", "oldest", sets), (word, goers, kind, cases[:1] * 2)), ("among",))
         self.fault(TURN, certificate[:2] + ((word, goers, kind, cases[:1] * 2),), ("wanted",))
-        for content in ((word, goers, 0, cases), (word, (0,), kind, cases), (word, goers, kind), (word, (0, 2), 2, cases)):
+        for content in (
+            (word, goers, 0, cases), (word, (0,), kind, cases), (word, goers, kind), (word, (0, 2), 2, cases),
+            (word, goers, kind, cases, ()), (word, goers, True, cases), (word, goers, cases, kind),
+        ):
             self.fault(TURN, certificate[:2] + (content,), ("form",))
 
 
@@ -621,7 +692,8 @@ class TestBest(CheckerCase):
         for many in ((), answers * 2):
             self.fault(GREATEST, ("shown", self.claim, (goers, parts, many)), ("form",))
         for bound in (
-            (), (1,), (0,) + bounds[2][1:], (8,) + bounds[2][1:], (True,) + bounds[2][1:], bounds[2] + (None,), 0, False,
+            (), (1,), (0,) + bounds[2][1:], (8,) + bounds[2][1:], (True,) + bounds[2][1:], bounds[2] + (None,), 0,
+            False,
             list(bounds[2]),
         ):
             self.fault(GREATEST, (
@@ -676,6 +748,12 @@ class TestBest(CheckerCase):
         self.fault(GREATEST, ("broken", claim[:4] + (1,), (word, answers)), ("form",))
         self.fault(GREATEST, ("broken", claim[:4] + (3,), (word, answers)), ("form",))
         self.right(GREATEST, ("broken", claim[:4] + (3,), (word, answers[1:2])))
+        # Each bound counts one slip more than the classes that its tree is against.
+        bounds = answers[1][1]
+        for own, total in (((None, bounds[1], None), 4), ((None, None, bounds[2]), 5), (bounds, 6)):
+            content = (word, (("bounds", own),))
+            for most, expected in ((total - 1, None), (total, ("set", 0, ("sum",))), (total + 1, ("set", 0, ("sum",)))):
+                self.fault(GREATEST, ("broken", claim[:3] + (most, 3), content), expected)
         # Where no set has such a worth, nothing is to be shown.
         self.right(GREATEST, ("broken", claim[:4] + (4,), (word, ())))
 

@@ -54,6 +54,10 @@ class TestRight(CheckerCase):
         for at, place in ((0, (0, 0)), (2, (2, 0)), (3, (0, 1)), (5, (2, 1))):
             self.shown((without(slips, at), ()), PAIRS, (), ("slip",) + place, both)
         self.shown((slips[1:4], ()), PAIRS, (), ("slip", 0, 0), both)
+        # By "oldest", the pair (1, 2) is there, too: the slip is that of its first part.
+        pairs = cells((0, 0), (1, 0), (1, 2), (2, 2))
+        self.shown((without(KEEPER[0], 2), ()), pairs, (), ("slip", 3, 0), ("oldest", (0,)))
+        self.shown((without(KEEPER[0], 1), ()), pairs, (), ("slip", 1, 0), ("oldest", (0,)))
 
     def test_row(self):
         for at, index in ((0, 0), (2, 1), (4, 2)):
@@ -177,7 +181,8 @@ class TestErrors(CheckerCase):
         for history in (
             None, 0, "", [], [COME[0]], (["in", 0],), (("in",),), (("in", 0, 0),), (("in", 2),), (("in", -1),),
             (("in", True),), (("out", -1),), (("out", False),), (("out", "0"),), (("on", 0),), (COME[0], None), (0,),
-            (("In", 0),), ((0, "in"),), ERROR + (("in", 2),), (("out", None),) + ERROR, (GO[0], ("in", 2)), (("in", None),),
+            (("In", 0),), ((0, "in"),), ERROR + (("in", 2),), (("out", None),) + ERROR, (GO[0], ("in", 2)),
+            (("in", None),),
         ):
             self.error(POOR, (), ("right",))
             self.fault(LAST, ("broken", ("right", NEWEST, POOR), history), ("form",))
@@ -240,7 +245,8 @@ class TestShortest(CheckerCase):
     def test_doors(self):
         for doors, expected in (
             ((), ("start",)), (self.DOORS[1:], ("start",)), ((((0,), 1),) + self.DOORS[1:], ("start",)),
-            (self.DOORS[:1], ("step", 0, 0)), (self.DOORS[:2], ("step", 0, 1)), (without(self.DOORS, 1), ("step", 0, 0)),
+            (self.DOORS[:1], ("step", 0, 0)), (self.DOORS[:2], ("step", 0, 1)),
+            (without(self.DOORS, 1), ("step", 0, 0)),
             (self.DOORS[:1] + (((1,), 2),) + self.DOORS[2:], ("step", 0, 0)),
             (self.DOORS[:2] + (((2,), 2),), ("step", 0, 1)), (self.DOORS[:2] + (((2,), 1000),), ("step", 0, 1)),
         ):
@@ -274,7 +280,8 @@ class TestShortest(CheckerCase):
     def test_pairs(self):
         for pairs, expected in (
             ((), ("start",)), (self.PAIRS[1:], ("start",)), ((((0,), (0,), 1),) + self.PAIRS[1:], ("start",)),
-            (self.PAIRS[:1], ("step", 0, 0)), (self.PAIRS[:2], ("step", 0, 1)), (without(self.PAIRS, 1), ("step", 0, 0)),
+            (self.PAIRS[:1], ("step", 0, 0)), (self.PAIRS[:2], ("step", 0, 1)),
+            (without(self.PAIRS, 1), ("step", 0, 0)),
             (self.PAIRS[:2] + (((2,), (2,), 2),), ("step", 0, 1)),
             (self.PAIRS[:1] + (((1,), (1,), 2),) + self.PAIRS[2:], ("step", 0, 0)),
             (self.PAIRS[:2] + (((2,), (1,), 0),) + self.PAIRS[2:], None),
@@ -382,7 +389,8 @@ class TestShortest(CheckerCase):
         self.fault(LAST, ("shown", self.claim, ("more",) + good), ("form",))
         self.fault(LAST, ("broken", self.claim, (ERROR,) + good), ("form",))
         for content in (
-            (), good, (ERROR,) + good + ((),), (ERROR, good), ("less", ERROR), [ERROR, *good], ("more",) + good[:2], None,
+            (), good, (ERROR,) + good + ((),), (ERROR, good), ("less", ERROR), [ERROR, *good], ("more",) + good[:2],
+            None,
             ("less",), ("less", ERROR, ()), ("More",) + good, ("least", ERROR), ERROR,
         ):
             self.fault(LAST, ("shown", self.claim, content), ("form",))
@@ -504,14 +512,16 @@ class TestExchange(CheckerCase):
         for content in (
             (), (self.DOORS,), (self.DOORS, self.ROWS, ()), [self.DOORS, self.ROWS], (list(self.DOORS), self.ROWS),
             (self.DOORS, list(self.ROWS)), (self.DOORS[::-1], self.ROWS), (self.DOORS, self.ROWS[::-1]),
-            (self.DOORS + self.DOORS[2:], self.ROWS), (self.DOORS, self.ROWS + self.ROWS[2:]), (((3,),), ()), ((0,), ()),
+            (self.DOORS + self.DOORS[2:], self.ROWS), (self.DOORS, self.ROWS + self.ROWS[2:]), (((3,),), ()),
+            ((0,), ()),
             (self.DOORS, ((2, 0, 0),)), (self.DOORS, ((-1, 0, 0),)), (self.DOORS, ((0, 8, 0),)),
             (self.DOORS, ((0, 0, 8),)), (self.DOORS, ((0, -1, 0),)), (self.DOORS, ((0, 0, True),)),
             (self.DOORS, ((0, 0),)), (self.DOORS, ((0, 0, 0, 0),)), ((((0,),),), ()), None, ("lacks", 0, ()),
         ):
             self.shown_content(content)
         for content in (
-            (), ("lacks",), ("lacks", 0), ("lacks", 0, (), ()), ("two", 0, ()), ("two", 0, (), (), ()), ("lacks", 1, ()),
+            (), ("lacks",), ("lacks", 0), ("two",), ("two", 0), ("lacks", 0, (), ()), ("two", 0, ()),
+            ("two", 0, (), (), ()), ("lacks", 1, ()),
             ("two", 1, (), ()), ("lacks", True, ()), ("lacks", False, ()), ("lacks", 0, (2,)), ("lacks", 0, (-1,)),
             ("lacks", 0, [0]), ("lacks", 0, (True,)), ("two", 0, (), (2,)), ("two", 0, (2,), ()), ("two", 0, (), None),
             ("Lacks", 0, ()), ["lacks", 0, ()], (0, "lacks", ()), None, (self.DOORS, self.ROWS), ("lacks", 0, 0),

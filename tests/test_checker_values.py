@@ -32,7 +32,9 @@ CERTIFICATES = tuple((house, decide(house, claim)) for house, claim in (
 ))
 
 # None of these stands at any place of a content: None may stand for a tree, and is tried elsewhere.
-NOWHERE_IN_CONTENTS = tuple(value for value in NOWHERE[:-2] if value is not None) + (10 ** 6, "shown", "Alike", (None,) * 5)
+NOWHERE_IN_CONTENTS = (10 ** 6, "shown", "Alike", (None,) * 5) + tuple(
+    value for value in NOWHERE[:-2] if value is not None
+)
 
 
 class TestFormsOfContents(CheckerCase):
@@ -90,7 +92,8 @@ class TestFormsOfContents(CheckerCase):
 
     def test_values_in_the_place_of_certificates(self):
         for house in (TURN, FOUR):
-            for value in NOWHERE + ((NOWHERE,) * 3, ("shown",) * 3, ("shown", "can", ()), house, ("shown", house, house)):
+            triples = ((NOWHERE,) * 3, ("shown",) * 3, ("shown", "can", ()), house, ("shown", house, house))
+            for value in NOWHERE + triples:
                 found = self.answer(first_fault, house, value)
                 triple = isinstance(value, tuple) and len(value) == 3
                 self.same(found, ("claim",) if triple else ("form",))
@@ -115,14 +118,15 @@ class TestFormsOfContents(CheckerCase):
 
 
 def changed(value, draw):
-    """Return a value with one drawn change at a drawn place: something exchanged, left out, turned, put in, or added."""
+    """Return a value with a drawn change at a drawn place: something exchanged, left out, turned, put in, or added."""
     path = draw.choice(paths(value))
     part = part_at(value, path)
     if isinstance(part, tuple) and part:
         at = draw.randrange(len(part))
         other = draw.choice(part)
         kinds = (
-            part[:at] + part[at + 1:], part[::-1], part[:at] + (other,) + part[at:], part[:at] + (other,) + part[at + 1:],
+            part[:at] + part[at + 1:], part[::-1], part[:at] + (other,) + part[at:],
+            part[:at] + (other,) + part[at + 1:],
             part + part, (), list(part), part[at],
         )
         return put(value, path, draw.choice(kinds))

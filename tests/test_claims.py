@@ -48,7 +48,8 @@ class TestRightClaims(ClaimCase):
     def test_each_use_and_each_goer(self):
         for house in HOUSES:
             for use in all_uses(house):
-                for claim in claims_of_use(house, use) + [("right", use, ((), ())), ("exchange", use, ((), ()), ((), ()))]:
+                keeper = ((), ())
+                for claim in claims_of_use(house, use) + [("right", use, keeper), ("exchange", use, keeper, keeper)]:
                     self.right(house, claim)
 
     def test_numbers_at_their_bounds(self):
@@ -74,7 +75,10 @@ class TestRightClaims(ClaimCase):
 class TestWrongClaims(ClaimCase):
     def test_words(self):
         for claim in CLAIMS:
-            for word in (claim[0].upper(), claim[0] + " ", claim[0][:-1], "", "most", None, 0, True, (claim[0],), [claim[0]]):
+            first = claim[0]
+            for word in (
+                first.upper(), first + " ", first[:-1], "", "most", None, 0, True, (first,), [first], {first: 1},
+            ):
                 self.wrong(TURN, (word,) + claim[1:])
             for word in WORDS:
                 if word != claim[0] and {word, claim[0]} != {"never", "right"}:

@@ -349,6 +349,18 @@ class TestFirstError(KeeperCase):
                     other = (slips, goings[:at] + put_there + goings[at + 1:])
                     self.has(COUNTS, use, other, least_error_by_events(COUNTS, use, other, 60))
 
+    def test_several_rows_left_out(self):
+        draw = random.Random("several")
+        for house in (ROUND, COUNTS, EIGHT):
+            for use in (("any", (0,)), ("oldest", (0,)), ("newest", (0,))):
+                slips, goings = own_slips(house, use)
+                for _ in range(12):
+                    keeper = (
+                        tuple(row for row in slips if draw.random() < 0.6 or row[1] == (0,)),
+                        tuple(row for row in goings if draw.random() < 0.9),
+                    )
+                    self.has(house, use, keeper, least_error_by_events(house, use, keeper, 60))
+
     def test_longest_of_drawn_houses(self):
         draw = random.Random("long")
         longest = 0

@@ -4,7 +4,8 @@ import inspect
 import unittest
 
 from doorslips import (
-    checker, claims, clashes, errors, exchanges, histories, houses, keepers, kinds, pairs, questions, sets, slips, texts,
+    checker, claims, clashes, errors, exchanges, histories, houses, keepers, kinds, pairs, questions, sets, slips,
+    texts,
     uses,
 )
 from doorslips.windows import Window

@@ -1,13 +1,15 @@
+import itertools
+import random
 import unittest
 
 from doorslips.clashes import clashes
 from doorslips.errors import UnknownKind
 from doorslips.questions import doors
-from doorslips.slips import classes, least_slips
+from doorslips.slips import classes, least_slips, parted
 from tests.helper import (
     EIGHT, FOUR, GATE, GREATEST, HOUSES, LAST, NO_GOERS, ORDERS, SUM, TURN, WINDOW, Case, all_uses, some_houses,
 )
-from tests.keeping import least_by_all_ways
+from tests.keeping import least_by_all_ways, ways_to_part
 
 SEVEN = ((7,), (0,), ((("set", 0, 0),), (("add", 0, 1),)))
 # The first kind clears all cells, so that by "newest" all doors must be told apart; the others turn one cell each.
@@ -113,6 +115,42 @@ class TestAllWays(SlipsCase):
                             self.is_right(house, use, kind, least)
         # All numbers that there can be have been met.
         self.assertEqual(set(met), {None, 1, 2, 3, 4, 5, 6, 7, 8})
+
+
+class TestParted(Case):
+    """The parting of doors by clashes of any shape, also such as no drawn house has."""
+
+    def parts(self, many, odds):
+        doors = [(number,) for number in range(many)]
+        there = {((one,), (two,)): True for one, two in odds}
+        fitting = [row for row in ways_to_part(many) if all(row[one] != row[two] for one, two in odds)]
+        least = min(1 + max(row) for row in fitting)
+        found = self.answer(parted, doors, there)
+        slips = [slip for _, slip in found]
+        self.assertEqual([door for door, _ in found], doors)
+        self.assertEqual(set(slips), set(range(least)))
+        for one, two in odds:
+            self.assertNotEqual(slips[one], slips[two])
+
+    def test_as_all_ways_to_part_tell(self):
+        draw = random.Random("parted")
+        for many in (4, 5, 6, 7, 8):
+            pairs = list(itertools.combinations(range(many), 2))
+            for _ in range(30):
+                share = draw.random()
+                self.parts(many, [pair for pair in pairs if draw.random() < share])
+
+    def test_shapes_on_which_the_first_slip_that_fits_is_not_the_best(self):
+        # Each even one clashes with all odd ones but the next one: two slips, where by turns there would be four.
+        crown = [(min(one, two), max(one, two)) for one in (0, 2, 4, 6) for two in (1, 3, 5, 7) if two != one + 1]
+        self.parts(8, crown)
+        ring = [(number, number + 1) for number in range(6)] + [(0, 6)]
+        self.parts(7, ring)
+        wheel = ring + [(number, 7) for number in range(7)]
+        self.parts(8, wheel)
+
+    def test_a_door_that_clashes_with_itself(self):
+        self.assertIsNone(self.answer(parted, [(0,), (1,)], {((1,), (1,)): True}))
 
 
 class TestUnknownKinds(Case):

@@ -25,7 +25,7 @@ FULL = (
 
 
 def line_told(text):
-    """Return the line of the error of a text of a house, or None, by trying how the lines up to each one could go on."""
+    """Return the line of the error of a text of a house, or None, by how the lines up to each one could go on."""
     *lines, rest = text.split("\n")
     for index in range(len(lines)):
         if not can_go_on(lines[:index + 1]):
@@ -144,14 +144,17 @@ class TestWrongHouses(TextCase):
             ("cells 9\n", 0), ("cells 1\n", 0), ("cells 0\n", 0), ("cells 2 2 2 2\n", 0), ("cells 3 3\n", 0),
             ("cells 2 5\n", 0), ("cells 8 1\n", 0), ("cells  2\n", 0), ("cells 2 \n", 0), (" cells 2\n", 0),
             ("cells 02\n", 0), ("cells +2\n", 0), ("cells 2.0\n", 0), ("Cells 2\n", 0), ("cells 2,2\n", 0),
-            ("cells\t2\n", 0), ("cells 2\r\n", 0), ("cells 2\n\n", 1), ("cells 2\nbegin 0", 1), ("cells 2\nbegin 0\n", 2),
-            ("cells 2\nbegin\n", 1), ("cells 2\nbegin 2\n", 1), ("cells 2\nbegin 0 0\n", 1), ("cells 2 2\nbegin 0\n", 1),
+            ("cells\t2\n", 0), ("cells 2\r\n", 0), ("cells 2\n\n", 1), ("cells 2\nbegin 0", 1),
+            ("cells 2\nbegin 0\n", 2),
+            ("cells 2\nbegin\n", 1), ("cells 2\nbegin 2\n", 1), ("cells 2\nbegin 0 0\n", 1),
+            ("cells 2 2\nbegin 0\n", 1),
             ("cells 2\nbegin -1\n", 1), ("cells 2\nbegin 00\n", 1), ("cells 2\nkind\n", 1), ("cells 2\ncells 2\n", 1),
             ("cells 2\nbegin 0\nkind", 2), ("cells 2\nbegin 0\nadd 0 1\n", 2), ("cells 2\nbegin 0\nbegin 0\n", 2),
             ("cells 2\nbegin 0\nkind \n", 2), ("cells 2\nbegin 0\n kind\n", 2), ("cells 2\nbegin 0\nkinds\n", 2),
             ("cells 2\nbegin 0\nkind 0\n", 2), ("cells 2\nbegin 0\nKind\n", 2), ("cells 2\nbegin 0\n\n", 2),
             ("cells 2\nbegin 0\nkind\n\n", 3), ("cells 2\nbegin 0\nkind\n ", 3), ("cells 2\nbegin 0\nkind\nkin", 3),
-            ("cells 2\nbegin 0\nkind\nkind", 3), ("cells 2\nbegin 0\nkind\nadd 0 1", 3), ("begin 0\ncells 2\nkind\n", 0),
+            ("cells 2\nbegin 0\nkind\nkind", 3), ("cells 2\nbegin 0\nkind\nadd 0 1", 3),
+            ("begin 0\ncells 2\nkind\n", 0),
             ("cells 2\nbegin 0\nkind\ncells 2\n", 3), ("cells 2\nbegin 0\nkind\nbegin 0\n", 3),
         ):
             self.wrong(text, line)
@@ -161,13 +164,17 @@ class TestWrongHouses(TextCase):
     def test_steps(self):
         head = "cells 2 4\nbegin 1 3\nkind\nset 0 1\n"
         for line in (
-            "set", "set 0", "set 0 2", "set 2 0", "set 0 0 0", "set 0 -1", "set 0 01", "set 0 x", "set 0 1 ", "set 0  1",
+            "set", "set 0", "set 0 2", "set 2 0", "set 0 0 0", "set 0 -1", "set 0 01", "set 0 x", "set 0 1 ",
+            "set 0  1",
             " set 0 1", "set\t0 1", "set 0 1\r", "set 0 +1", "set 0 1.", "set,0,1", "set 1 4", "set 1 10", "set 1 9",
-            "add 0 0", "add 0 2", "add 1 4", "up 0 0", "up 1 4", "raise 0 2", "lower 1 4", "copy 0 0", "copy 0 2", "copy 2 0",
-            "swap 0 1", "swap 0 0", "sets 0 1", "Set 0 1", "0 0 1", "when", "when 0 0 0", "when 0 0 0 ", "when 0 1 0 set 0 1",
+            "add 0 0", "add 0 2", "add 1 4", "up 0 0", "up 1 4", "raise 0 2", "lower 1 4", "copy 0 0", "copy 0 2",
+            "copy 2 0",
+            "swap 0 1", "swap 0 0", "sets 0 1", "Set 0 1", "0 0 1", "when", "when 0 0 0", "when 0 0 0 ",
+            "when 0 1 0 set 0 1",
             "when 0 0 2 set 0 1", "when 2 0 0 set 0 1", "when 0 0 0 set", "when 0 0 0 set 0", "when 0 0 0 set 0 2",
             "when 0 0 0 kind", "when 0 0 0 when 0 0 0 set 0 1", "when 0 0 set 0 1", "when 0 0 0 0 set 0 1",
-            "when 0 0 0  set 0 1", "when 00 0 0 set 0 1", "when 0 0 0 set 0 1 1", "when -0 0 0 set 0 1", "When 0 0 0 set 0 1",
+            "when 0 0 0  set 0 1", "when 00 0 0 set 0 1", "when 0 0 0 set 0 1 1", "when -0 0 0 set 0 1",
+            "When 0 0 0 set 0 1",
             "when 0 0 0 (set 0 1)", "", " ", "kind kind", "kind 1", "set 0 \u0661", "set 0 \u00b9", "set \uff10 1",
             "set 0 " + "9" * 5000, "set 0 " + "0" * 5000, "set " * 3000,
         ):
@@ -210,7 +217,8 @@ class TestWrongHouses(TextCase):
                     lines[:at] + [line[:-1]] + lines[at + 1:], lines[:at] + [line[1:]] + lines[at + 1:],
                     lines[:at] + [line.rpartition(" ")[0]] + lines[at + 1:], lines[:at], lines[:at] + [""] + lines[at:],
                     lines[:at] + [line + " "] + lines[at + 1:], lines[:at] + [" " + line] + lines[at + 1:],
-                    lines[:at] + [line.replace(" ", "  ", 1)] + lines[at + 1:], lines[:at] + [line + "\r"] + lines[at + 1:],
+                    lines[:at] + [line.replace(" ", "  ", 1)] + lines[at + 1:],
+                    lines[:at] + [line + "\r"] + lines[at + 1:],
                     lines[:at] + [line.replace(" ", "\t", 1)] + lines[at + 1:],
                 ):
                     self.told("".join(row + "\n" for row in changed))
@@ -219,7 +227,8 @@ class TestWrongHouses(TextCase):
     def test_each_word_replaced(self):
         met = set()
         others = (
-            "0", "1", "2", "7", "8", "9", "10", "00", "01", "-1", "+1", "1_0", "\u0663", "\u00b2", "x", "", "set", "add", "up",
+            "0", "1", "2", "7", "8", "9", "10", "00", "01", "-1", "+1", "1_0", "\u0663", "\u00b2", "x", "", "set",
+            "add", "up",
             "raise", "lower", "copy", "swap", "when", "kind", "cells", "begin", "any", "SET",
         )
         for house in (TURN, FULL, GATE, COUNTS):
@@ -240,7 +249,8 @@ class TestWrongHouses(TextCase):
             for _ in range(20):
                 at = draw.randrange(len(text))
                 sign = draw.choice("0123456789 \nkinadetr\t\r")
-                self.told(draw.choice((text[:at] + sign + text[at:], text[:at] + sign + text[at + 1:], text[:at] + text[at + 1:])))
+                ahead, behind = text[:at], text[at + 1:]
+                self.told(draw.choice((ahead + sign + text[at:], ahead + sign + behind, ahead + behind)))
 
     def test_texts_of_20000_characters(self):
         self.wrong("x" * 20000, 0)
@@ -258,9 +268,12 @@ class TestWrongUses(TextCase):
         ):
             self.wrong_use(text, 0)
         for line in (
-            "", " ", "any", "any ", "any  0", " any 0", "any 0 ", "any 2", "any 0 2", "any 1 0", "any 0 0", "any 00", "any -1",
-            "any +1", "any 0,1", "Any 0", "old 0", "oldest0", "oldest 0 1 1", "newest\t0", "newest 0\r", "any x", "0 any",
-            "any 10", "any \u0661", "any any", "kind", "any 0 1 2 3 4 5 6 7 8 9", "any " + "1" * 5000, "any (0)", "('any', (0,))",
+            "", " ", "any", "any ", "any  0", " any 0", "any 0 ", "any 2", "any 0 2", "any 1 0", "any 0 0", "any 00",
+            "any -1",
+            "any +1", "any 0,1", "Any 0", "old 0", "oldest0", "oldest 0 1 1", "newest\t0", "newest 0\r", "any x",
+            "0 any",
+            "any 10", "any \u0661", "any any", "kind", "any 0 1 2 3 4 5 6 7 8 9", "any " + "1" * 5000, "any (0)",
+            "('any', (0,))",
         ):
             self.wrong_use(line + "\n", 0)
             self.wrong_use(line + "\nany 0\n", 0)
