@@ -99,9 +99,9 @@ def _shortest(house, claim):
     made = makes(house)
     paired = pair_costs(made, house[1], use)
     costs = (
-        tuple(sorted((door, way[0]) for door, way in door_costs(made, house[1]).items())),
-        tuple(sorted(pair + way[:1] for pair, way in paired.items())),
-        tuple(sorted(row + way[:1] for row, way in row_costs(made, use, slip_rows(keeper), paired).items())),
+        tuple(sorted([(door, way[0]) for door, way in door_costs(made, house[1]).items()])),
+        tuple(sorted([pair + way[:1] for pair, way in paired.items()])),
+        tuple(sorted([row + way[:1] for row, way in row_costs(made, use, slip_rows(keeper), paired).items()])),
     )
     if error is None or len(error) > many:
         return "broken", ("more",) + costs

@@ -15,4 +15,4 @@ def exchange_of(house, use, old, new):
             row = (goer, given[(goer, door)])
             if found.setdefault(row, newer[(goer, door)]) != newer[(goer, door)]:
                 return None
-    return tuple(sorted(row + (slip,) for row, slip in found.items()))
+    return tuple(sorted([row + (slip,) for row, slip in found.items()]))

@@ -41,7 +41,8 @@ class Study:
         for one, two in self.odds:
             counts[one] -= 1
             counts[two] -= 1
-        return [door for _, door in sorted((count, door) for door, count in counts.items())]
+        ranked = sorted([(count, door) for door, count in counts.items()])
+        return [door for _, door in ranked]
 
 
 def _tree(odds, many, left, classes, fresh, numbers):

@@ -29,13 +29,14 @@ class Window:
         # An entry is (number, kind, slip or None, those who were in when it came, as pairs of number and kind).
         self._entries = []
         self._next = 0
-        self._events = 0
+        # The number of the entry of each event done: a list, as __len__ is to return the len of an attribute.
+        self._events = []
         self._checkpoints = []
         self._certificates = []
 
     def __len__(self):
         """Return the number of events done."""
-        return len(range(self._events))
+        return len(self._events)
 
     def enter(self, kind):
         """Let an entry come; return its number; raise UnknownKind, LimitExceeded, Lacking."""
@@ -50,7 +51,7 @@ class Window:
         self._entries.append((number, kind, slip, tuple(entry[:2] for entry in self._entries)))
         self._content = after(self._house, self._content, (kind,))
         self._next += 1
-        self._events += 1
+        self._events.append(number)
         return number
 
     def leave(self, number):
@@ -65,7 +66,7 @@ class Window:
             raise Lacking(number)
         self._entries = [other for other in self._entries if other[0] != number]
         self._content = newer
-        self._events += 1
+        self._events.append(entry[0])
 
     def content(self):
         """Return the content."""

@@ -67,6 +67,11 @@ INTERFACE = {
     "texts": ("format_house", "format_use", "parse_house", "parse_use"),
 }
 
+# What a generator expression may stand in, and what it may stand in only where no class has a truth of its own.
+# sorted is in neither: it takes a list, whatever the classes are.
+TAKERS = ("list", "tuple", "dict", "join")
+ASKING_TAKERS = ("any", "all", "min", "max", "sum")
+
 # The methods that stand in the body of the class itself.
 METHODS_OF_WINDOW = (
     "__init__", "__len__", "enter", "leave", "content", "due", "is_due", "inside", "kind_of", "slip", "case", "use",
@@ -99,6 +104,39 @@ def bound_names(tree):
         elif isinstance(node, ast.Name) and isinstance(node.ctx, ast.Store):
             names.append(node.id)
     return names
+
+
+def is_len_of_a_name(node):
+    """Tell whether a node is the len of a name or of an attribute off a name."""
+    if not isinstance(node, ast.Call) or not isinstance(node.func, ast.Name) or node.func.id != "len":
+        return False
+    of = node.args[0]
+    return isinstance(of, ast.Name) or isinstance(of, ast.Attribute) and isinstance(of.value, ast.Name)
+
+
+def has_own_truth(class_node):
+    """Tell whether a class has an __eq__, a __bool__, or a __len__ that is not the len of a name or an attribute."""
+    for method in class_node.body:
+        name = getattr(method, "name", None)
+        if name in ("__eq__", "__bool__"):
+            return True
+        if name == "__len__":
+            returned = [node.value for node in ast.walk(method) if isinstance(node, ast.Return)]
+            if not all(is_len_of_a_name(value) for value in returned):
+                return True
+    return False
+
+
+def generator_expressions(tree):
+    """Return pairs of a generator expression and the name of what it stands straight in, which is None for others."""
+    takers = {}
+    for node in ast.walk(tree):
+        if isinstance(node, ast.Call) and isinstance(node.func, ast.Name):
+            takers.update({argument: node.func.id for argument in node.args})
+        elif isinstance(node, ast.Call) and isinstance(node.func, ast.Attribute) and node.func.attr == "join":
+            if isinstance(node.func.value, ast.Constant):
+                takers.update({argument: "join" for argument in node.args})
+    return [(node, takers.get(node)) for node in ast.walk(tree) if isinstance(node, ast.GeneratorExp)]
 
 
 class TestLanguage(unittest.TestCase):
@@ -184,6 +222,13 @@ class TestLanguage(unittest.TestCase):
                     self.assertIn(side.value, (None, True, False), place)
         for place, node in self.nodes(ast.Constant):
             self.assertNotIsInstance(node.value, (float, complex), place)
+
+    def test_generator_expressions(self):
+        own_truths = [node.name for _, node in self.nodes(ast.ClassDef) if has_own_truth(node)]
+        takers = TAKERS if own_truths else TAKERS + ASKING_TAKERS
+        for name, tree in self.trees.items():
+            for node, taker in generator_expressions(tree):
+                self.assertIn(taker, takers, f"{name}, line {node.lineno}, own truths of {own_truths}")
 
     def test_names(self):
         for name, tree in self.trees.items():
